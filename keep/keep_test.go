@@ -8,6 +8,7 @@ import (
 
 	"hachure/api"
 	"hachure/disk"
+	"hachure/file"
 	"hachure/grid"
 	"hachure/journal"
 	"hachure/leb"
@@ -46,6 +47,13 @@ func sum(k *Keeper) int64 {
 // bytesOf is what a file of the disk has.
 func bytesOf(d *disk.Disk, file int) []byte {
 	b, _ := d.Read(file)
+	return b
+}
+
+// imageOf is the bytes of a grid's file, by the best predictors.
+func imageOf(g *grid.Grid) []byte {
+	best, _ := file.Best(g)
+	b, _ := file.Save(g, best)
 	return b
 }
 
@@ -89,7 +97,7 @@ func TestCreate(t *testing.T) {
 // P41.1: which file counts, and what is Broken.
 func TestOpen(t *testing.T) {
 	g, _ := grid.New(2, 1, 7)
-	image, _ := picture(g)
+	image := imageOf(g)
 	epoch := func(n uint64, image []byte) string { return string(leb.Put(nil, n)) + string(image) }
 	for i, c := range []struct {
 		first, second []byte
@@ -236,7 +244,7 @@ func TestFold(t *testing.T) {
 		t.Error("the file that counts", bytesOf(d, 1))
 	}
 	g := k.Grid()
-	image, _ := picture(g)
+	image := imageOf(g)
 	if e := k.Fold(); e != api.Fine || k.Epoch() != 3 || !bytes.Equal(bytesOf(d, 0), records("\x03"+string(image))) {
 		t.Error(e, bytesOf(d, 0))
 	}
@@ -274,18 +282,13 @@ func TestFoldFull(t *testing.T) {
 	if e := k.Fold(); e != api.Full || string(bytesOf(d, 1)) != "stays" {
 		t.Error(e)
 	}
-	g, _ := grid.New(1024, 1024, 0)
-	dice := sample.New(41)
-	for range 300000 {
-		g.Set(dice.Cell(1024, 1024), dice.Between(api.MinValue, api.MaxValue))
-	}
-	k, _ = made(t, api.MaxDisk)
-	k.s.Do(api.Op{Kind: api.Create, N: 1024, M: 1024})
-	l, _ := g.Values(g.All())
-	k.s.Do(api.Op{Kind: api.Paste, R: g.All(), Values: l})
-	if e := k.Fold(); e != api.Full || !grid.Same(k.Grid(), g) {
+	k, _ = made(t, 40000)
+	tell(t, k, "create 1024 1024", "fill 0 0 1023 500 7")
+	was := k.Grid()
+	if e := k.Fold(); e != api.Full || !grid.Same(k.Grid(), was) {
 		t.Error(e)
 	}
+	tell(t, k, "undo")
 }
 
 // as tells whether a keeper goes together with a store that was told the same.
@@ -300,7 +303,7 @@ func as(k *Keeper, s *store.Store) bool {
 func replay(image *grid.Grid, ops []api.Op) *store.Store {
 	s := store.New()
 	if image != nil {
-		b, _ := picture(image)
+		b := imageOf(image)
 		s.Do(api.Op{Kind: api.Load, Bytes: b})
 	}
 	for _, o := range ops {

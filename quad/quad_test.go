@@ -15,8 +15,11 @@ import (
 
 var R, C = sample.Rect, sample.Cell
 
+// area is a square of a tree: its first cell, and its side.
+type area struct{ x, y, side int64 }
+
 // plain is a set's text by its words: a square is a leaf, if all of its cells are in the set, or none is.
-func plain(set map[api.Cell]bool, w, h int64, s square) string {
+func plain(set map[api.Cell]bool, w, h int64, s area) string {
 	n := int64(0)
 	for y := s.y; y < s.y+s.side; y++ {
 		for x := s.x; x < s.x+s.side; x++ {
@@ -33,7 +36,7 @@ func plain(set map[api.Cell]bool, w, h int64, s square) string {
 	}
 	text := "+"
 	half := s.side / 2
-	for _, q := range []square{{s.x, s.y, half}, {s.x + half, s.y, half}, {s.x, s.y + half, half}, {s.x + half, s.y + half, half}} {
+	for _, q := range []area{{s.x, s.y, half}, {s.x + half, s.y, half}, {s.x, s.y + half, half}, {s.x + half, s.y + half, half}} {
 		text += plain(set, w, h, q)
 	}
 	return text
@@ -45,7 +48,7 @@ func textOf(set map[api.Cell]bool, w, h int64) string {
 		side *= 2
 	}
 	d := func(n int64) string { return strings.TrimLeft(string([]rune{rune('0' + n/10), rune('0' + n%10)}), "0") }
-	return d(w) + " " + d(h) + " " + plain(set, w, h, square{0, 0, side})
+	return d(w) + " " + d(h) + " " + plain(set, w, h, area{0, 0, side})
 }
 
 // holds holds a quad against a set.

@@ -9,7 +9,6 @@ import (
 	"testing"
 
 	"hachure/api"
-	"hachure/grid"
 	"hachure/sample"
 	"hachure/store"
 )
@@ -180,9 +179,6 @@ func TestAsStore(t *testing.T) {
 		want := Answer(o.Kind, s.Do(o))
 		if got := c.Do(line); !slices.Equal(got, want) {
 			t.Fatalf("%q: %q, not %q", line, got, want)
-		}
-		if !grid.Same(c.s.Grid(), s.Grid()) {
-			t.Fatal(line)
 		}
 	}
 	long := "paste 0 0 99 99 " + strings.Repeat("1,", 9999) + "1"
