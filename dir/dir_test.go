@@ -38,6 +38,10 @@ func TestPut(t *testing.T) {
 	if b, e := Put(1, 1, []int64{1 << 20}); e != api.Fine || !bytes.Equal(b[13:], []byte{21, 0, 0, 0, 0, 0, 16, 0}) {
 		t.Error(b, e)
 	}
+	least, e := Put(1, 1, []int64{1})
+	if _, _, l, e2 := Get(least); e != api.Fine || e2 != api.Fine || !slices.Equal(l, []api.Entry{{At: 21, Len: 1}}) {
+		t.Error(l, e, e2)
+	}
 	for _, c := range []struct {
 		w, h int64
 		lens []int64

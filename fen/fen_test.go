@@ -105,7 +105,7 @@ func TestErrors(t *testing.T) {
 		d int64
 		e api.Code
 	}{
-		{C(3, 0), math.MaxInt64, api.Place}, {C(0, -1), math.MaxInt64, api.Place}, {C(math.MaxInt64, math.MinInt64), 0, api.Place},
+		{C(3, 0), math.MaxInt64, api.Place}, {C(0, 2), 0, api.Place}, {C(-1, 0), 0, api.Place}, {C(0, -1), math.MaxInt64, api.Place}, {C(math.MaxInt64, math.MinInt64), 0, api.Place},
 		{C(0, 0), 1<<40 + 1, api.Value}, {C(0, 0), -1<<40 - 1, api.Value}, {C(0, 0), math.MaxInt64, api.Value}, {C(0, 0), math.MinInt64, api.Value},
 		{C(1, 1), 1, api.Value}, {C(1, 1), -1<<41 - 1, api.Value}, {C(1, 1), math.MaxInt64, api.Value}, {C(1, 1), math.MinInt64, api.Value},
 	} {

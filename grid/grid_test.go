@@ -62,6 +62,14 @@ func TestCopySame(t *testing.T) {
 			t.Error(o.Size())
 		}
 	}
+	fours, _ := New(20, 18, 4)
+	if Same(fours, g.Copy()) || Same(c, fours) {
+		t.Error("other values")
+	}
+	threes, _ := New(20, 18, 3)
+	if Same(threes, fours) {
+		t.Error("both flat")
+	}
 	var none *Grid
 	if !Same(nil, nil) || none.Copy() != nil {
 		t.Error("nil")
@@ -153,6 +161,12 @@ func TestErrors(t *testing.T) {
 	}
 	if !Same(g, was) {
 		t.Error("changed")
+	}
+	whole, _ := New(32, 32, 4)
+	for _, c := range []api.Cell{C(32, 0), C(0, 32), C(48, 5), C(5, 48), C(-16, 5), C(5, -16), C(31, 32), C(32, 31)} {
+		if v, e := whole.At(c); v != 0 || e != api.Place || whole.Set(c, 5) != api.Place {
+			t.Error(c, v, e)
+		}
 	}
 }
 

@@ -260,6 +260,25 @@ func TestFold(t *testing.T) {
 	}
 }
 
+// P41.2, P41.3: a record that just fills the room is kept, one that has a byte more isn't.
+func TestJustRoom(t *testing.T) {
+	create, set := records("\x01", "create 3 1"), records("set 0 0 5")
+	g, _ := grid.New(3, 1, 0)
+	fold := records("\x02" + string(imageOf(g)))
+	for more, e := range map[int]api.Code{-1: api.Full, 0: api.Fine} {
+		k, d := made(t, int64(len(create)+len(set)+more))
+		tell(t, k, "create 3 1")
+		if r := k.Do(api.Op{Kind: api.Set, N: 5}); r.Code != e || e == api.Fine && d.Left() != 0 {
+			t.Error(more, r, d.Left())
+		}
+		k, d = made(t, int64(len(create)+len(fold)+more))
+		tell(t, k, "create 3 1")
+		if got := k.Fold(); got != e || e == api.Fine && d.Left() != 0 {
+			t.Error(more, got, d.Left())
+		}
+	}
+}
+
 func TestFoldFull(t *testing.T) {
 	room := int64(len(records("\x01", "create 3 1")))
 	k, d := made(t, room+20)

@@ -36,6 +36,9 @@ func TestPasteFrom(t *testing.T) {
 		t.Error(e)
 	}
 	has(t, g, 1, 7, 8, 4, 9, api.MinValue)
+	if ends := of(t, 2, 1, api.MinValue, api.MaxValue); Clamp(ends, ends.All(), api.MinValue, api.MaxValue) != api.Fine {
+		t.Error("ends")
+	}
 	for _, c := range []struct {
 		r api.Rect
 		l []int64

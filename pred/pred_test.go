@@ -93,6 +93,18 @@ func TestRestsCells(t *testing.T) {
 	if l, e := Cells(api.Left, []int64{api.MaxValue, -(1<<32 - 1)}, 2); e != api.Fine || l[1] != api.MinValue {
 		t.Error(l, e)
 	}
+	ends := []int64{api.MinValue, api.MaxValue, api.MinValue}
+	for kind, want := range [][]int64{ends, {api.MinValue, 1<<32 - 1, -(1<<32 - 1)}} {
+		if l, e := Rests(kind, ends, 3); e != api.Fine || !slices.Equal(l, want) {
+			t.Error(kind, l, e)
+		}
+		if l, e := Cells(kind, want, 3); e != api.Fine || !slices.Equal(l, ends) {
+			t.Error(kind, l, e)
+		}
+	}
+	if v, e := Guess(api.Left, ends, 3, 2); v != api.MaxValue || e != api.Fine {
+		t.Error(v, e)
+	}
 	if l, e := Rests(api.Plain, nil, 7); e != api.Fine || len(l) != 0 {
 		t.Error(l, e)
 	}

@@ -86,7 +86,7 @@ func TestRepairErrors(t *testing.T) {
 		r api.Rect
 		e api.Code
 	}{
-		{nil, R(9, 0, 0, 0), api.Nil}, {&grid.Grid{}, R(9, 0, 0, 0), api.Nil}, {other, R(9, 0, 0, 0), api.Size}, {g, R(5, 0, 0, 0), api.Place}, {g, R(0, 0, 0, 4), api.Place},
+		{land(d, 5, 3), R(9, 0, 0, 0), api.Size}, {land(d, 6, 4), R(9, 0, 0, 0), api.Size}, {nil, R(9, 0, 0, 0), api.Nil}, {&grid.Grid{}, R(9, 0, 0, 0), api.Nil}, {other, R(9, 0, 0, 0), api.Size}, {g, R(5, 0, 0, 0), api.Place}, {g, R(0, 0, 0, 4), api.Place},
 		{g, R(1, 0, 0, 0), api.Turned}, {g, R(math.MinInt64, 0, math.MaxInt64, 0), api.Place},
 	} {
 		if e := p.Repair(c.g, c.r); e != c.e {

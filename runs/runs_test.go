@@ -23,6 +23,7 @@ func TestPutLen(t *testing.T) {
 		{[]int64{1, 1}, []byte{2, 2}},
 		{[]int64{0, 5, 0, 0}, []byte{0, 0, 10, 0, 1}},
 		{make([]int64, 129), []byte{0, 0x80, 1}},
+		{make([]int64, 128), []byte{0, 0x7f}},
 		{[]int64{math.MinInt64}, leb.Put(nil, math.MaxUint64)},
 	} {
 		if b := Put(nil, c.rests); !bytes.Equal(b, c.b) || Len(c.rests) != len(c.b) {

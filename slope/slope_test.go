@@ -73,7 +73,7 @@ func TestHides(t *testing.T) {
 		e                 api.Code
 	}{
 		{5, 0, 9, 1, 2, true, api.Fine}, {5, 0, 10, 1, 2, false, api.Fine}, {5, 0, 11, 1, 2, false, api.Fine}, {0, 0, 0, 0, 1, false, api.Fine}, {1, 0, 0, 0, 1, true, api.Fine},
-		{far, far, far, 1024, 1024, false, api.Fine}, {far, -far, far, 1023, 1024, true, api.Fine}, {-far, far, -far, 1023, 1024, false, api.Fine}, {-1, -2, 0, 1, 3, true, api.Fine},
+		{far, far, far, 1024, 1024, false, api.Fine}, {far, -far, far, 1023, 1024, true, api.Fine}, {-far, far, -far, 1023, 1024, false, api.Fine}, {-1, -2, 0, 1, 3, true, api.Fine}, {0, -5, 5, 1, 2, false, api.Fine}, {1, -5, 5, 1, 2, true, api.Fine}, {-1, 5, -5, 1, 2, false, api.Fine}, {1, 5, -5, 1, 2, true, api.Fine},
 		{far + 1, 0, 0, 0, 0, false, api.Arg}, {0, 0, 0, -1, 1, false, api.Arg}, {0, 0, 0, 2, 1, false, api.Arg}, {0, 0, 0, 0, 1025, false, api.Arg}, {0, 0, 0, least, greatest, false, api.Arg},
 		{far + 1, 0, 0, 0, 1, false, api.Value}, {0, -far - 1, 0, 0, 1, false, api.Value}, {0, 0, greatest, 0, 1, false, api.Value}, {least, 0, 0, 1, 1, false, api.Value},
 	} {

@@ -44,8 +44,8 @@ func TestLevelsSize(t *testing.T) {
 	}
 	for _, s := range wildSizes {
 		n, e := Levels(s[0], s[1])
-		_, _, e2 := Size(s[0], s[1], -1)
-		if n != 0 || e != api.Size || e2 != api.Size {
+		w, h, e2 := Size(s[0], s[1], -1)
+		if w != 0 || h != 0 || n != 0 || e != api.Size || e2 != api.Size {
 			t.Error(s, n, e, e2)
 		}
 	}

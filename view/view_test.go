@@ -68,6 +68,12 @@ func TestRow(t *testing.T) {
 			t.Error(l, e)
 		}
 	}
+	if l, e := From(p, C(0, 0), api.MaxHeight, api.MaxHeight, 0); len(l) != 1 || e != api.Fine {
+		t.Error(l, e)
+	}
+	if l, e := Both(p, C(0, 0), C(1, 0), api.MaxHeight, 2); len(l) != 3 || e != api.Fine {
+		t.Error(l, e)
+	}
 	if l, e := Both(p, C(0, 0), C(2, 0), 0, 0); len(l) != 0 || e != api.Fine {
 		t.Error(l, e)
 	}
