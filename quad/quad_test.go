@@ -201,11 +201,13 @@ func TestErrors(t *testing.T) {
 	turned, _ := grid.New(2, 3, 0)
 	a, _ := Of(g, 0)
 	b, _ := Of(turned, 0)
+	square, _ := grid.New(3, 3, 0)
+	higher, _ := Of(square, 0)
 	for _, f := range []func(a, b *Quad) (*Quad, api.Code){And, Or, Less} {
 		for _, c := range []struct {
 			a, b *Quad
 			e    api.Code
-		}{{nil, b, api.Nil}, {a, nil, api.Nil}, {nil, nil, api.Nil}, {&Quad{}, a, api.Nil}, {a, b, api.Size}} {
+		}{{nil, b, api.Nil}, {a, nil, api.Nil}, {nil, nil, api.Nil}, {&Quad{}, a, api.Nil}, {a, b, api.Size}, {a, higher, api.Size}, {b, higher, api.Size}} {
 			if q, e := f(c.a, c.b); q != nil || e != c.e {
 				t.Error(e, c.e)
 			}

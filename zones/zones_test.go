@@ -99,6 +99,12 @@ func TestRow(t *testing.T) {
 	if l, e := Of(g, none); len(l) != 0 || e != api.Fine {
 		t.Error(l, e)
 	}
+	for _, v := range []int64{api.MinValue, api.MaxValue} {
+		m, e := Mask(g, labels, 2, v)
+		if got, _ := m.At(C(1, 0)); got != v || e != api.Fine {
+			t.Error(v, got, e)
+		}
+	}
 	if m, e := Mask(g, none, 0, 7); !grid.Same(m, g) || e != api.Fine {
 		t.Error(e)
 	}
@@ -139,6 +145,9 @@ func TestErrors(t *testing.T) {
 	} {
 		if m, e := Mask(c.g, c.labels, 1, c.v); m != nil || e != c.e {
 			t.Error(c, e)
+		}
+		if m, e := Mask(c.g, []int64{1, 1}, 1, c.v); c.e == api.Value && (m != nil || e != api.Value) {
+			t.Error("though no cell has it", c, e)
 		}
 		l, e := Of(c.g, c.labels)
 		p, e2 := Borders(c.g, c.labels)
