@@ -169,7 +169,7 @@ func TestRead(t *testing.T) {
 		{"", api.Word}, {"2", api.Word}, {"2 2", api.Word}, {" 2 2 .", api.Word}, {"2  2 .", api.Word}, {"02 2 .", api.Word}, {"x 2 .", api.Word}, {"9223372036854775808 0 .", api.Word}, {"2 9223372036854775808 .", api.Word},
 		{"0 x .", api.Word}, {"0 2.", api.Word}, {"0 2 x", api.Size}, {"2 0 ", api.Size}, {"1025 1 .", api.Size}, {"1 -1 .", api.Size}, {"9223372036854775807 -9223372036854775808 ", api.Size},
 		{"2 2 ", api.Word}, {"2 2 +", api.Word}, {"2 2 +...", api.Word}, {"2 2 x", api.Word}, {"2 2 +..x.", api.Word}, {"2 2 ..", api.Word}, {"2 2 . ", api.Word}, {"1 1 +....", api.Word}, {"2 2 ++....###", api.Word},
-		{"2 2 +....", api.Form}, {"2 2 +####", api.Form}, {"2 2 +#####", api.Word}, {"3 2 #", api.Form}, {"2 3 +#...", api.Fine}, {"3 3 +#.#.", api.Form}, {"3 3 ++#...##.", api.Form}, {"3 3 ++####...", api.Form}, {"4 4 ++####...", api.Form},
+		{"2 2 +....", api.Form}, {"2 2 +####", api.Form}, {"2 2 +#####", api.Word}, {"3 2 #", api.Form}, {"2 3 +#...", api.Fine}, {"3 4 +.#..", api.Form}, {"4 3 +..#.", api.Form}, {"3 4 +.#+#....", api.Form}, {"4 3 +..#+#...", api.Form}, {"3 4 +.+#.#...", api.Fine}, {"3 4 +.+.#....", api.Form}, {"3 3 +#.#.", api.Form}, {"3 3 ++#...##.", api.Form}, {"3 3 ++####...", api.Form}, {"4 4 ++####...", api.Form},
 		{"3 3 +##..x", api.Word}, {"2 2 +....#", api.Word}, {"1 1 #", api.Fine}, {"1 1 .", api.Fine}, {"2 2 #", api.Fine}, {"2 1 +##..", api.Fine}, {"2 2 \xff", api.Word}, {"2 2 é", api.Word}, {"2 2 .\x00", api.Word},
 		{"1024 1024 " + strings.Repeat("+", 2000), api.Word},
 	} {
